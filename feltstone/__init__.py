@@ -1,0 +1,1 @@
+"""Feltstone: what is known of a convex stone that was only felt."""

@@ -1,0 +1,76 @@
+"""Rows of corners: the least convex lot round places, and what halves leave of it."""
+
+from feltstone.places import amount_at, compare_amount, compare_places, order_places, place_on, turn_at
+from feltstone.ratios import minus, over
+
+
+def left_chain(places):
+    """The places, in their order, that are left when all are dropped at which the way does not turn left."""
+    chain = []
+    for place in places:
+        while len(chain) > 1 and turn_at(chain[-2], chain[-1], place) <= 0:
+            chain.pop()
+        chain.append(place)
+    return chain
+
+
+def hull_corners(places):
+    """The corners, as a patch has them, of the least convex lot with one place or more."""
+    rows = order_places(places)
+    if len(rows) == 1:
+        return (rows[0],)
+    there, back = left_chain(rows), left_chain(rows[::-1])
+    return tuple(there[:-1] + back[:-1])
+
+
+def sides_of(corners):
+    """The couples of neighbouring corners, as a patch has them."""
+    if len(corners) < 3:
+        return tuple(zip(corners, corners[1:]))
+    return tuple(zip(corners, corners[1:] + corners[:1]))
+
+
+def is_between(one, other, place):
+    """Whether a place lies on the stretch from one place to another that comes behind it."""
+    if turn_at(one, other, place) != 0:
+        return False
+    return compare_places(one, place) <= 0 and compare_places(place, other) <= 0
+
+
+def corners_hold(corners, place):
+    """Whether a place lies in the lot of these corners."""
+    if len(corners) < 3:
+        return is_between(corners[0], corners[-1], place)
+    for one, other in sides_of(corners):
+        if turn_at(one, other, place) < 0:
+            return False
+    return True
+
+
+def place_at(one, other, direction, amount):
+    """The place with the amount on the way between two places, of which one is below it and one beyond it."""
+    start = amount_at(direction, one)
+    share = over(minus(amount, start), minus(amount_at(direction, other), start))
+    return place_on(one, other, share)
+
+
+def corners_within(corners, direction, amount):
+    """The corners of what lies in the half: in their order round, begun anywhere, none if nothing does.
+
+    A stretch is gone along there and back, so the place at which it is cut comes twice.
+    """
+    ranks = [compare_amount(direction, corner, amount) for corner in corners]
+    kept = []
+    for k in range(len(corners)):
+        if ranks[k - 1] * ranks[k] < 0:
+            kept.append(place_at(corners[k - 1], corners[k], direction, amount))
+        if ranks[k] <= 0:
+            kept.append(corners[k])
+    return kept
+
+
+def corners_in_all(corners, halves):
+    """The corners of what lies in all halves, as corners_within tells them."""
+    for direction, amount in halves:
+        corners = corners_within(corners, direction, amount)
+    return corners

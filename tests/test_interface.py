@@ -1,0 +1,74 @@
+"""The interface: names, arguments, and the file in which each stands."""
+
+import importlib
+import inspect
+import unittest
+
+FUNCTIONS = {
+    "ratios": "is_whole(thing, low=None, high=None) is_ratio(thing) make_ratio(top, bottom=1) plus(one, other) "
+              "minus(one, other) times(one, other) over(one, other) negative(one) compare(one, other) sum_of(row) "
+              "least_of(row) greatest_of(row) ratio_text(one) ratio_of(text)",
+    "places": "check_place(place) is_direction(thing) check_direction(direction) check_amount(amount) check_size(size) "
+              "direction_of(step) across(direction) opposite(direction) mirror_direction(direction) "
+              "between_of(one, other) turn_of(one, other) order_round(directions) amount_at(direction, place) "
+              "step_from(one, other) place_by(place, step) place_on(one, other, share) mean_place(places) "
+              "cross_at(first, second, third) side_normal(one, other) turn_place(place) mirror_place(place) "
+              "grow_place(place, size)",
+    "patches": "hull_of(places) corner_patches(patch) whole_corners(patches) reach_of(patch, direction) "
+               "low_of(patch, direction) breadth_of(patch, direction) touched_by(patch, direction) halves_of(patch) "
+               "cut_patch(patch, direction, amount) line_patch(patch, direction, amount) common_patch(one, other) "
+               "lies_in(one, other) shift_patch(patch, step) turn_patch(patch) mirror_patch(patch) "
+               "grow_patch(patch, size)",
+    "facts": "is_fact(thing) is_kept(fact, stone)",
+}
+
+LEADS = "shifted(self, step) turned(self) mirrored(self) grown(self, size)"
+
+CLASSES = {
+    ("patches", "Patch(corners)"): ("sides twice_area middle", "__len__ __iter__ __eq__ __contains__", ""),
+    ("tables", "Table(low, high)"): ("", "__eq__", LEADS),
+    ("facts", "Within(direction, amount)"): ("half", "__eq__", LEADS),
+    ("facts", "Ruler(direction, amount)"): ("half", "__eq__", LEADS),
+    ("facts", "Meets(patch)"): ("half", "__eq__", LEADS),
+    ("cases", "Case(table, facts)"): (
+        "", "__len__ __iter__ __eq__", LEADS + " patch_at(self, number) with_fact(self, fact) with_facts(self, facts) "
+        "with_table(self, table) without_fact(self, number) without_facts(self, numbers)"),
+}
+
+
+def signatures(text):
+    """The couples of a name and its arguments in a text."""
+    for part in text.replace(") ", ")\n").splitlines():
+        name, _, arguments = part.partition("(")
+        yield name, "(" + arguments
+
+
+class Interface(unittest.TestCase):
+    def test_functions(self):
+        for module, text in FUNCTIONS.items():
+            for name, arguments in signatures(text):
+                with self.subTest(module=module, name=name):
+                    told = getattr(importlib.import_module(f"feltstone.{module}"), name)
+                    self.assertTrue(inspect.isfunction(told))
+                    self.assertEqual((told.__module__, told.__name__), (f"feltstone.{module}", name))
+                    self.assertEqual(str(inspect.signature(told)), arguments)
+
+    def test_classes(self):
+        for (module, head), (properties, operators, methods) in CLASSES.items():
+            (name, arguments), = signatures(head)
+            with self.subTest(name=name):
+                told = getattr(importlib.import_module(f"feltstone.{module}"), name)
+                self.assertTrue(inspect.isclass(told))
+                self.assertEqual((told.__module__, told.__name__), (f"feltstone.{module}", name))
+                self.assertEqual(told.__bases__, (object,))
+                self.assertEqual(str(inspect.signature(told)), arguments)
+                for listed in properties.split():
+                    self.assertIsInstance(vars(told)[listed], property)
+                for listed in operators.split():
+                    self.assertTrue(inspect.isfunction(vars(told)[listed]))
+                for listed, arguments in signatures(methods):
+                    self.assertEqual(str(inspect.signature(vars(told)[listed])), arguments)
+
+
+if __name__ == "__main__":
+    unittest.main()
