@@ -1,7 +1,7 @@
 """Rows of corners: the least convex lot round places, and what halves leave of it."""
 
-from feltstone.places import amount_at, compare_amount, compare_places, order_places, place_on, turn_at
-from feltstone.ratios import minus, over
+from feltstone.places import compare_amount, compare_places, order_places, turn_at, whole_row
+from feltstone.ratios import lowest_terms
 
 
 def left_chain(places):
@@ -47,11 +47,18 @@ def corners_hold(corners, place):
     return True
 
 
+def height_over(direction, row, amount):
+    """A whole number, 0 at the amount: how far a place, told by its whole_row, is beyond it, times both bottoms."""
+    return (direction[0] * row[0] + direction[1] * row[1]) * amount[1] - row[2] * amount[0]
+
+
 def place_at(one, other, direction, amount):
     """The place with the amount on the way between two places, of which one is below it and one beyond it."""
-    start = amount_at(direction, one)
-    share = over(minus(amount, start), minus(amount_at(direction, other), start))
-    return place_on(one, other, share)
+    first, second = whole_row(one), whole_row(other)
+    rise, fall = height_over(direction, first, amount), height_over(direction, second, amount)
+    # Each place is weighed by the height of the other; done in whole numbers, as each division costs much.
+    x, y, bottom = [b * rise - a * fall for a, b in zip(first, second)]
+    return (lowest_terms(x, bottom), lowest_terms(y, bottom))
 
 
 def corners_within(corners, direction, amount):

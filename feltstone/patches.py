@@ -4,8 +4,8 @@ from math import lcm
 
 from feltstone.corners import corners_hold, corners_in_all, hull_corners, sides_of
 from feltstone.errors import BadPatch
-from feltstone.places import amount_at, direction_of, grow_place, is_place, mean_place, mirror_place, opposite
-from feltstone.places import cross_at, place_by, side_normal, step_from, turn_place
+from feltstone.places import AXES, amount_at, cross_at, direction_of, grow_place, is_place, mean_place, mirror_place
+from feltstone.places import opposite, place_by, side_normal, step_from, turn_place
 from feltstone.ratios import greatest_of, is_row, least_of, minus, negative, sum_of
 
 
@@ -113,7 +113,7 @@ def normals_of(patch):
     """The directions of the halves of a patch, each with a place at which the half ends."""
     corners = patch.corners
     if len(corners) == 1:
-        return [(direction, corners[0]) for direction in ((1, 0), (0, 1), (-1, 0), (0, -1))]
+        return [(direction, corners[0]) for direction in AXES]
     if len(corners) == 2:
         one, other = corners
         normal, along = side_normal(one, other), direction_of(step_from(one, other))

@@ -6,6 +6,8 @@ from feltstone.errors import BadAmount, BadDirection, BadPlace, BadSize
 from feltstone.ratios import compare, is_ratio, is_row, is_whole, lowest_terms, minus, negative, over, plus
 from feltstone.ratios import sign_of, sum_of, times
 
+AXES = ((1, 0), (0, 1), (-1, 0), (0, -1))
+
 
 def is_place(thing):
     """Whether a thing is a list or tuple of two ratios."""
@@ -167,6 +169,13 @@ def whole_row(place):
     return (x[0] * y[1], y[0] * x[1], x[1] * y[1])
 
 
+def raw_step(one, other):
+    """Two whole numbers: the step from the first place to the second times a number above 0."""
+    ax, ay, a = whole_row(one)
+    bx, by, b = whole_row(other)
+    return (bx * a - ax * b, by * a - ay * b)
+
+
 def raw_cross(first, second, third):
     """What cross_at returns as a couple (top, bottom), the bottom above 0, not in lowest terms."""
     ax, ay, a = whole_row(first)
@@ -189,8 +198,8 @@ def turn_at(first, second, third):
 
 def side_normal(one, other):
     """The direction that points to the right of the step from one place to another."""
-    dx, dy = step_from(one, other)
-    return direction_of((dy, negative(dx)))
+    dx, dy = raw_step(one, other)
+    return whole_direction(dy, -dx)
 
 
 def turn_place(place):

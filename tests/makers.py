@@ -30,6 +30,11 @@ def patch(*couples):
     return Patch(ps(*couples))
 
 
+def bow(many):
+    """A patch of so many corners."""
+    return patch(*[(k, k * k) for k in range(many)])
+
+
 def table(x, y, far_x, far_y):
     return Table(p(x, y), p(far_x, far_y))
 

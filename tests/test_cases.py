@@ -9,34 +9,10 @@ from feltstone.facts import Meets, Ruler, Within, is_kept
 from feltstone.patches import (
     common_patch, cut_patch, grow_patch, hull_of, lies_in, line_patch, mirror_patch, shift_patch, turn_patch,
 )
+from tests.made_cases import EMPTY, FOUR, MIXED, NOTHING, TABLE, some_cases, some_fact
 from tests.makers import (
     JUNK, SQUARE, amount, grid, holds, meets, number, p, patch, r, ruler, some_places, source, table, within,
 )
-
-TABLE = table(-9, -9, 9, 9)
-FOUR = [ruler(1, 0, 4), ruler(0, 1, 2), ruler(-1, 0, 0), ruler(0, -1, 0)]
-MIXED = [within(1, 1, 5), meets((0, 0), (20, 0), (0, 20)), ruler(1, 0, 4), meets((3, 3), (8, 3)), within(0, -1, 3),
-         meets((9, 9)), ruler(1, 1, 5), within(1, 1, 5)]
-EMPTY = [within(1, 0, 1), meets((0, 0)), ruler(-1, 0, -2), within(0, 1, 3)]
-NOTHING = Case(TABLE, [])
-
-
-def some_fact(picks):
-    way = picks.choice([(1, 0), (0, 1), (-1, 0), (0, -1), (1, 2), (-2, 1), (1, -1)])
-    kind = picks.randint(0, 2)
-    if kind == 0:
-        return Within(way, r(picks.randint(-1, 6)))
-    if kind == 1:
-        return Ruler(way, r(picks.randint(0, 6)))
-    return Meets(hull_of(some_places(picks, picks.randint(1, 5), 5)))
-
-
-def some_cases():
-    picks = source(71)
-    cases = [NOTHING, Case(TABLE, FOUR), Case(TABLE, MIXED), Case(TABLE, EMPTY), Case(table(1, 1, 2, 3), FOUR)]
-    for _ in range(40):
-        cases.append(Case(table(-4, -3, 5, 4), [some_fact(picks) for _ in range(picks.randint(1, 7))]))
-    return cases
 
 
 def known(case):

@@ -20,7 +20,21 @@ FUNCTIONS = {
                "lies_in(one, other) shift_patch(patch, step) turn_patch(patch) mirror_patch(patch) "
                "grow_patch(patch, size)",
     "facts": "is_fact(thing) is_kept(fact, stone)",
+    "placetext": "place_text(place) place_of(text) patch_text(patch) patch_of(text)",
+    "casetext": "fact_text(fact) fact_of(text) case_text(case) case_of(text)",
+    "fitting": "has_stone(case) empty_patches(case) check_case(case) full_patches(case) misfit(case, stone) "
+               "check_choice(case, places) stone_of_choice(case, places) choice_in(case, stone) "
+               "choice_fault(case, stone, places) corner_choices(case)",
+    "quarrels": "any_stone(case) quarrels_of(case) quarrel_fault(case, facts)",
+    "critical": "least_reach(patches, direction) greatest_low(patches, direction) low_places(patches, direction) "
+                "high_places(patches, direction) critical_for(patches, others)",
+    "rounds": "parts_at(patches, others, direction) neighbours_round(patches, others) part_lots(patches, others) "
+              "parting_fault(patches, others, told) round_fault(patches, others, told)",
+    "sure": "sure_of(case, place) is_sure(case, place) sure_fault(case, place, told) missed_fault(case, place, told) "
+            "sure_places(case) verdict_of(case, place) farthest_stone(case, direction)",
 }
+
+GENERATORS = {"corner_choices", "neighbours_round"}
 
 LEADS = "shifted(self, step) turned(self) mirrored(self) grown(self, size)"
 
@@ -33,6 +47,12 @@ CLASSES = {
     ("cases", "Case(table, facts)"): (
         "", "__len__ __iter__ __eq__", LEADS + " patch_at(self, number) with_fact(self, fact) with_facts(self, facts) "
         "with_table(self, table) without_fact(self, number) without_facts(self, numbers)"),
+    ("quarrels", "Quarrel(facts)"): ("", "__eq__", ""),
+    ("rounds", "Parting(direction, ones, twos)"): ("", "__eq__", ""),
+    ("rounds", "Round(entries)"): ("", "__eq__ __len__ __iter__", ""),
+    ("sure", "Sure(entries)"): ("", "__eq__ __len__ __iter__", ""),
+    ("sure", "Missed(direction, stone)"): ("", "__eq__", ""),
+    ("sure", "Far(amount, stone)"): ("", "__eq__", ""),
 }
 
 
@@ -52,6 +72,7 @@ class Interface(unittest.TestCase):
                     self.assertTrue(inspect.isfunction(told))
                     self.assertEqual((told.__module__, told.__name__), (f"feltstone.{module}", name))
                     self.assertEqual(str(inspect.signature(told)), arguments)
+                    self.assertIs(inspect.isgeneratorfunction(told), name in GENERATORS)
 
     def test_classes(self):
         for (module, head), (properties, operators, methods) in CLASSES.items():
