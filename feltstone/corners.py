@@ -23,11 +23,16 @@ def hull_corners(places):
     return tuple(there[:-1] + back[:-1])
 
 
+def couples_round(row):
+    """Each entry of a list or tuple with the next one, and the last with the first."""
+    return list(zip(row, row[1:] + row[:1]))
+
+
 def sides_of(corners):
     """The couples of neighbouring corners, as a patch has them."""
     if len(corners) < 3:
         return tuple(zip(corners, corners[1:]))
-    return tuple(zip(corners, corners[1:] + corners[:1]))
+    return tuple(couples_round(corners))
 
 
 def is_between(one, other, place):

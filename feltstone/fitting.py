@@ -29,6 +29,16 @@ def full_patches(case):
     return check_case(case).patches
 
 
+def full_lot(case):
+    """The patches of a case as a lot, if each has a place."""
+    return [patch for _, patch in full_patches(case)]
+
+
+def numbers_of(case):
+    """The numbers of the patches of a case."""
+    return [number for number, _ in case.patches]
+
+
 def misfit(case, stone):
     """None if the stone fits, -1 if it leaves the table, else the number of the first fact that it does not keep."""
     if not lies_in(stone, case.table.ground):

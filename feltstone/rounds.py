@@ -1,5 +1,6 @@
 """Whether a direction parts two lots of patches, and the rounds that show that none does."""
 
+from feltstone.corners import couples_round
 from feltstone.critical import check_lots, critical_for, greatest_low, high_places, least_reach, low_places
 from feltstone.patches import low_of, reach_of
 from feltstone.places import AXES, across, amount_at, between_of, check_direction, is_direction, is_place, opposite
@@ -43,11 +44,6 @@ def parts_at(patches, others, direction):
     check_lots(patches, others)
     direction = check_direction(direction)
     return compare(least_reach(patches, direction), greatest_low(others, direction)) < 0
-
-
-def couples_round(row):
-    """Each entry of a list or tuple with the next one, and the last with the first."""
-    return list(zip(row, row[1:] + row[:1]))
 
 
 def neighbours_round(patches, others):

@@ -1,12 +1,11 @@
 """The places that surely belong to the stone."""
 
-from feltstone.critical import greatest_low, high_corner, high_places
-from feltstone.fitting import check_case, full_patches, misfit
-from feltstone.patches import Patch, hull_of, low_of, part_in_halves, reach_of
-from feltstone.places import AXES, amount_at, check_direction, check_place, is_direction, opposite, order_round
-from feltstone.places import side_normal, turn_of
-from feltstone.ratios import compare, is_row, is_whole, negative
-from feltstone.rounds import Round, are_entries, couples_round, part_lots, round_fault
+from feltstone.critical import floors_of, greatest_low, high_places, part_above
+from feltstone.fitting import check_case, full_lot, misfit, numbers_of
+from feltstone.patches import Patch, hull_of, reach_of
+from feltstone.places import amount_at, check_direction, check_place, is_direction
+from feltstone.ratios import compare, is_row, is_whole
+from feltstone.rounds import Round, are_entries, part_lots, round_fault
 
 
 class Sure:
@@ -45,16 +44,6 @@ class Far:
 
     def __eq__(self, other):
         return isinstance(other, Far) and self.amount == other.amount and self.stone == other.stone
-
-
-def full_lot(case):
-    """The patches of a case as a lot, if each has a place."""
-    return [patch for _, patch in full_patches(case)]
-
-
-def numbers_of(case):
-    """The numbers of the patches of a case."""
-    return [number for number, _ in case.patches]
 
 
 def sure_of(case, place):
@@ -120,50 +109,6 @@ def farthest_stone(case, direction):
     return Far(greatest_low(patches, direction), hull_of(high_places(patches, direction)))
 
 
-def turns_of(patch):
-    """Each direction at which the farthest corner of a patch changes, with the one that is farthest to its left."""
-    if len(patch) == 1:
-        return {}
-    return {side_normal(one, other): other for one, other in couples_round(patch.corners)}
-
-
-def farthest_corners(patch, directions):
-    """For each of some directions in round order the corner that is farthest from there on to the next one.
-
-    All directions at which it changes are among them, so two corners are farthest only where the turns tell which.
-    """
-    turns = turns_of(patch)
-    corner = high_corner(patch, directions[0])
-    corners = []
-    for direction in directions:
-        corner = turns.get(direction, corner)
-        corners.append(corner)
-    return corners
-
-
-def turns_between(patch, direction, following):
-    """The directions strictly between two others at which the lowest corner of a patch changes."""
-    ways = [opposite(way) for way in turns_of(patch)]
-    return [way for way in ways if turn_of(direction, way) > 0 and turn_of(way, following) > 0]
-
-
-def sure_halves(patches):
-    """Halves that have just the sure places in common.
-
-    Between neighbours of these directions each patch has one farthest corner. So greatest_low is there the least
-    amount of the hull of those corners, and a half with it turns about one of them unless a side of the hull lies
-    along its end: the halves along the neighbours and the normals of such sides shut out what all shut out.
-    """
-    directions = order_round([*AXES, *[way for patch in patches for way in turns_of(patch)]])
-    rows = [farthest_corners(patch, directions) for patch in patches]
-    halves = []
-    for index, (direction, following) in enumerate(couples_round(directions)):
-        hull = hull_of([row[index] for row in rows])
-        for way in [direction, *turns_between(hull, direction, following)]:
-            halves.append((opposite(way), negative(low_of(hull, way))))
-    return halves
-
-
 def sure_places(case):
     """The patch of all sure places, or None."""
-    return part_in_halves(case.whole, sure_halves(full_lot(case)))
+    return part_above(case.whole, floors_of((full_lot(case),)))

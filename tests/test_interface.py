@@ -32,9 +32,21 @@ FUNCTIONS = {
               "parting_fault(patches, others, told) round_fault(patches, others, told)",
     "sure": "sure_of(case, place) is_sure(case, place) sure_fault(case, place, told) missed_fault(case, place, told) "
             "sure_places(case) verdict_of(case, place) farthest_stone(case, direction)",
+    "suresides": "sure_sides(case) sides_fault(case, told) stones_apart(case) apart_fault(case, told)",
+    "reaches": "reach_range(case, direction) stone_of_reach(case, direction, amount) least_reaching(case, direction) "
+               "breadth_range(case, direction) stone_of_breadth(case, direction, amount) sure_span(case, direction)",
+    "claims": "check_claim(claim) keeps_claim(stone, claim) answer_of(case, claim) answer_fault(case, claim, answer)",
+    "follow": "follows(case, fact) needless_facts(case) lean_facts(case) all_fit(case, other) alike_cases(case, other) "
+              "unlike_fault(case, other, unlike)",
+    "kept": "check_ruled(case) check_corner(case, number) ruler_ends(case) corners_touched(case) "
+            "stride_is_let(case, one, other) loss_of(case, one, other) check_kept(case, kept) kept_hull(case, kept) "
+            "tight_lots(case)",
+    "areas": "least_area(case) area_fault(case, least) all_least(case) greatest_area(case) loss_rows(case) "
+             "rows_fault(case, rows) leaving_costs(case) least_stone(case)",
+    "between": "growing_stones(case) stone_of_area(case, twice) area_verdict(case, twice) sure_area(case)",
 }
 
-GENERATORS = {"corner_choices", "neighbours_round"}
+GENERATORS = {"corner_choices", "neighbours_round", "tight_lots", "growing_stones"}
 
 LEADS = "shifted(self, step) turned(self) mirrored(self) grown(self, size)"
 
@@ -53,6 +65,10 @@ CLASSES = {
     ("sure", "Sure(entries)"): ("", "__eq__ __len__ __iter__", ""),
     ("sure", "Missed(direction, stone)"): ("", "__eq__", ""),
     ("sure", "Far(amount, stone)"): ("", "__eq__", ""),
+    ("suresides", "Side(direction, amount, stone)"): ("", "__eq__", ""),
+    ("claims", "Answer(keeping, breaking)"): ("verdict", "__eq__", ""),
+    ("follow", "Unlike(which, stone)"): ("", "__eq__", ""),
+    ("areas", "Least(twice, kept)"): ("", "__eq__", ""),
 }
 
 
