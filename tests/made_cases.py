@@ -23,6 +23,30 @@ TOO_LOW = BOX.with_fact(ruler(1, 1, -1))
 SIDES = Case(TABLE, [meets((0, 0), (4, 0)), meets((0, 4), (4, 0)), meets((0, 0), (0, 4)), within(-1, 0, 0),
                      within(0, -1, 0), within(1, 1, 4)])
 
+# The example [6.11]: stones from the left to the right end of the table, and stones from its low end to its high one.
+WIDE = Case(table(0, 0, 4, 4), [ruler(1, 0, 4), ruler(-1, 0, 0)])
+HIGH = Case(table(0, 0, 4, 4), [ruler(0, 1, 4), ruler(0, -1, 0)])
+# What all stones of this case have is the triangle of three places.
+THREE_PLACES = Case(TABLE, [meets((0, 0)), meets((4, 0)), within(0, 1, 8), meets((0, 4))])
+ONE_PLACE = Case(TABLE, [within(1, 0, 1), ruler(-1, 0, -1), ruler(0, 1, 1), within(0, -1, -1)])
+ON_STRETCH = Case(TABLE, [within(-1, -1, -3), ruler(1, 1, 3), within(1, 0, 2), meets((1, 2)), ruler(-1, 0, 0)])
+SMALL = Case(table(0, 0, 1, 1), [within(1, 1, "3/2"), ruler(1, 0, 1)])
+FAR = Case(table(20, -9, 30, 9), [ruler(-1, 0, -20), meets((20, 0), (25, 9))])
+# The wholes of these touch those of SMALL and BOX along a side and at a corner.
+BESIDE = Case(table(4, -9, 9, 9), [meets((4, 1), (5, 1))])
+AT_CORNER = Case(table(4, 2, 9, 9), [])
+
+
+def pairs_of_cases(many=60, seed=73):
+    """Couples of cases with stones: special ones, and by chance near to each other or far apart."""
+    special = [WIDE, HIGH, THREE_PLACES, ONE_PLACE, ON_STRETCH, SMALL, FAR, BESIDE, AT_CORNER, BOX, FIVE]
+    pairs = [(one, other) for one in special for other in special]
+    picks, cases = source(seed), cases_with_stones(40, seed)
+    for _ in range(many):
+        case, other = picks.choice(cases), picks.choice(cases)
+        pairs.append((case, other.shifted(p(picks.choice([0, 0, 5, -12]), picks.choice([0, 0, "7/2", 13])))))
+    return pairs
+
 
 def some_fact(picks):
     way = picks.choice([(1, 0), (0, 1), (-1, 0), (0, -1), (1, 2), (-2, 1), (1, -1)])

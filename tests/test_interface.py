@@ -44,6 +44,18 @@ FUNCTIONS = {
     "areas": "least_area(case) area_fault(case, least) all_least(case) greatest_area(case) loss_rows(case) "
              "rows_fault(case, rows) leaving_costs(case) least_stone(case)",
     "between": "growing_stones(case) stone_of_area(case, twice) area_verdict(case, twice) sure_area(case)",
+    "meeting": "meeting(case, other) meeting_fault(case, other, told)",
+    "lying": "lying_in(case, other) lying_fault(case, other, told)",
+    "sums": "sure_sums(case, other) possible_sums(case, other) sum_verdict(case, other, place) "
+            "sum_reach(case, other, direction) sure_hulls(case, other) possible_hulls(case, other)",
+    "steps": "sure_steps(case, other) possible_steps(case, other) sure_holds(case, other) possible_holds(case, other)",
+    "spaces": "space_range(case, other, direction) pair_of_space(case, other, direction, amount) "
+              "square_between(one, other) distance_range(case, other) nearest_places(case, other) "
+              "farthest_pair(case, other) farthest_fault(case, other, told)",
+    "lines": "line_verdict(cases, direction) line_up(cases, direction) line_fault(cases, direction, told) "
+             "orders_along(cases, direction)",
+    "evens": "sum_patches(one, other) opposite_patch(patch) difference_range(patch, direction) is_even(patch) "
+             "even_of(patch)",
 }
 
 GENERATORS = {"corner_choices", "neighbours_round", "tight_lots", "growing_stones"}
@@ -69,6 +81,15 @@ CLASSES = {
     ("claims", "Answer(keeping, breaking)"): ("verdict", "__eq__", ""),
     ("follow", "Unlike(which, stone)"): ("", "__eq__", ""),
     ("areas", "Least(twice, kept)"): ("", "__eq__", ""),
+    ("meeting", "SurelyMeet(entries)"): ("", "__eq__", ""),
+    ("meeting", "NeverMeet(direction)"): ("", "__eq__", ""),
+    ("meeting", "MayMeet(direction, one, other)"): ("", "__eq__", ""),
+    ("lying", "SurelyIn(rounds)"): ("", "__eq__", ""),
+    ("lying", "NeverIn(number, direction)"): ("", "__eq__", ""),
+    ("lying", "MayIn(inner, avoider)"): ("", "__eq__", ""),
+    ("spaces", "Farthest(square, direction, one, other)"): ("", "__eq__", ""),
+    ("lines", "LinedUp(stones)"): ("", "__eq__", ""),
+    ("lines", "Blocked(first, second)"): ("", "__eq__", ""),
 }
 
 
