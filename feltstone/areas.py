@@ -122,11 +122,8 @@ def rows_fault(case, rows):
 
 def leaving_costs(case):
     """For each corner twice the area of its triangle with the corner before and the one behind it."""
-    corners = check_ruled(case).whole.corners
-    if len(corners) < 3:
-        return tuple([ZERO for _ in corners])
-    sides = couples_round(corners)
-    return tuple([cross_at(sides[k - 1][0], sides[k][0], sides[k][1]) for k in range(len(corners))])
+    sides = couples_round(check_ruled(case).whole.corners)
+    return tuple([cross_at(sides[k - 1][0], sides[k][0], sides[k][1]) for k in range(len(sides))])
 
 
 def least_stone(case):
