@@ -128,10 +128,26 @@ def is_fact(thing):
     return isinstance(thing, (Within, Ruler, Meets))
 
 
+def has_corner_in(one, other):
+    """Whether some corner of the first patch lies in the second."""
+    for corner in one.corners:
+        if corner in other:
+            return True
+    return False
+
+
+def have_common(one, other):
+    """Whether two patches have a place in common."""
+    # Mostly a corner shows it, which is told sooner than all that both have in common.
+    if has_corner_in(one, other) or has_corner_in(other, one):
+        return True
+    return common_patch(one, other) is not None
+
+
 def is_kept(fact, stone):
     """Whether a stone keeps the fact."""
     if isinstance(fact, Meets):
-        return common_patch(stone, fact.patch) is not None
+        return have_common(stone, fact.patch)
     rank = compare(reach_of(stone, fact.direction), fact.amount)
     if isinstance(fact, Ruler):
         return rank == 0

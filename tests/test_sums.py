@@ -6,6 +6,7 @@ from fractions import Fraction
 from feltstone.cases import Case
 from feltstone.patches import Patch, cut_patch, hull_of
 from feltstone.sums import possible_hulls, possible_sums, sum_reach, sum_verdict, sure_hulls, sure_sums
+from feltstone.sure import sure_places
 from tests.made_cases import (
     BOX, FAR, FIVE, HIGH, NOTHING, ONE_PLACE, ON_STRETCH, SIDES, SMALL, TABLE, THREE_PLACES, WIDE, critical, greatest_least,
     lot_of, pairs_of_cases, place_in, stones_in, twelve_facts,
@@ -60,6 +61,7 @@ class Sums(unittest.TestCase):
         self.assertEqual(sure_sums(HIGH, WIDE), patch((4, 4)))
         self.assertEqual(possible_sums(case=WIDE, other=HIGH), patch((0, 0), (8, 0), (8, 8), (0, 8)))
         self.assertEqual(sum_verdict(case=WIDE, other=HIGH, place=p(4, 4)), "always")
+        self.assertEqual((sure_places(WIDE), sure_places(HIGH)), (None, None))
 
     def test_sure_sums_are_as_told(self):
         kinds = set()

@@ -10,8 +10,8 @@ from feltstone.patches import Patch, common_patch
 from feltstone.sure import Far, farthest_stone, sure_places
 from feltstone.suresides import Side, apart_fault, sides_fault, stones_apart, sure_sides
 from tests.made_cases import (
-    BOX, FIVE, NOTHING, SIDES, TABLE, can_be_parted, cases_with_stones, critical, fits, least_greatest, lot_of,
-    meet, round_key, twelve_facts,
+    BOX, FIVE, NOTHING, SIDES, TABLE, can_be_parted, cases_with_stones, critical, fits, greatest_least, least_greatest, lot_of,
+    lowest, meet, round_key, twelve_facts,
 )
 from tests.makers import HEXAGON, JUNK, SQUARE, amount, holds, meets, number, numbers, p, patch, r, ruler, within
 from tests.test_critical import NO_WAYS
@@ -22,6 +22,11 @@ LEFT_RIGHT = Case(TABLE, [meets((0, 0), (0, 9)), meets((5, 0), (5, 9))])
 ON_A_LINE = Case(TABLE, [meets((1, 2)), meets((4, 2))])
 ON_A_SLOPE = Case(TABLE, [meets((1, 2), (2, 4)), meets((0, 0), (1, 2)), within(2, -1, 0), within(-2, 1, 0), meets((-3, -6)),
                           meets((3, 6))])
+# An end of the sure stretch lies on slanted lines alone, and not on the one straight across it.
+SLANTED_END = Case(TABLE, [meets((-5, 2), (-1, 0), (0, 5)), meets((-4, -1)), meets((-5, -4))])
+# Two stones that fit may stand apart, but not along an axis.
+APART_ON_A_SLOPE = Case(TABLE, [meets((-3, 4), (-1, -5), (5, 2)), meets((3, 4), (5, 5)), meets((-1, 1), (4, 1), (2, 3)),
+                                meets((-4, 5), (1, 2), (0, 4))])
 CORNER_ALONE = Case(TABLE, [meets((2, 3))])
 LINE = Case(TABLE, [within(-1, -1, -3), within(1, 1, 3), ruler(1, 0, 5), ruler(-1, 0, 1)])
 
@@ -88,7 +93,8 @@ def all_critical_sides(case):
 class SureSides(unittest.TestCase):
     def test_wholly_against_the_sure_places(self):
         many = {}
-        for case in cases_with_stones(90, 301) + [LEFT_RIGHT, ON_A_LINE, ON_A_SLOPE, CORNER_ALONE, LINE]:
+        own = [LEFT_RIGHT, ON_A_LINE, ON_A_SLOPE, CORNER_ALONE, LINE, SLANTED_END, APART_ON_A_SLOPE]
+        for case in cases_with_stones(90, 301) + own:
             sides, sure = sure_sides(case), sure_places(case)
             self.assertTrue(is_right(case, sides))
             self.assertIsNone(sides_fault(case, sides))
@@ -119,6 +125,20 @@ class SureSides(unittest.TestCase):
                 for side in sure_sides(case):
                     at = [corner for corner in sure.corners if amount(side.direction, corner) == number(side.amount)]
                     self.assertEqual(len(at), 2)
+
+    def test_of_a_stretch_with_a_slanted_end(self):
+        sure, lot = sure_places(SLANTED_END), lot_of(SLANTED_END)
+        self.assertEqual(len(sure), 2)
+        along = lowest(*[b - a for a, b in zip(*map(numbers, sure.corners))])
+        ends = ((along, sure.corners[0]), ((-along[0], -along[1]), sure.corners[1]))
+        self.assertTrue(any(least_greatest(lot, way) < amount(way, end) for way, end in ends))
+        self.assertTrue(is_right(SLANTED_END, sure_sides(SLANTED_END)))
+
+    def test_of_two_stones_apart_along_no_axis(self):
+        lot = lot_of(APART_ON_A_SLOPE)
+        self.assertTrue(all(least_greatest(lot, way) <= greatest_least(lot, way) for way in ((1, 0), (0, 1))))
+        self.assertTrue(is_right(APART_ON_A_SLOPE, sure_sides(APART_ON_A_SLOPE)))
+        self.assertEqual(len(stones_apart(APART_ON_A_SLOPE)), 2)
 
     def test_the_amount_is_the_greatest_low(self):
         for case in cases_with_stones(30, 303):
@@ -251,7 +271,7 @@ def have_common(stones):
 class StonesApart(unittest.TestCase):
     def test_wholly(self):
         seen = set()
-        for case in cases_with_stones(90, 306) + [FIVE, ON_A_LINE, LEFT_RIGHT, SIDES, BOX]:
+        for case in cases_with_stones(90, 306) + [FIVE, ON_A_LINE, LEFT_RIGHT, SIDES, BOX, APART_ON_A_SLOPE]:
             told, lot = stones_apart(case), lot_of(case)
             if sure_places(case) is not None:
                 self.assertIsNone(told)
