@@ -1,8 +1,9 @@
 """The areas of the stones that fit a case without Meets, all told twice as large as they are."""
 
 from feltstone.corners import couples_round
-from feltstone.kept import check_ruled, corners_touched, ends_alone, has_each_ruler, hull_at, is_let, kept_word
-from feltstone.kept import stride_loss, tight_lots
+from feltstone.kept import check_ruled, corners_touched, ends_alone, hull_at, is_let, kept_word, stride_loss
+from feltstone.kept import tight_lots
+from feltstone.lots import has_each
 from feltstone.places import cross_at
 from feltstone.ratios import ZERO, compare, is_ratio, is_row, is_whole, minus, plus
 
@@ -132,4 +133,4 @@ def least_stone(case):
     if len(case.whole) == 1:
         return case.whole
     rows, touched = ends_alone(case), corners_touched(case)
-    return hull_at(case, touched) if rows and has_each_ruler(rows, touched) else None
+    return hull_at(case, touched) if rows and has_each(touched, rows) else None

@@ -3,12 +3,11 @@
 from feltstone.critical import greatest_low, high_places, least_reach, low_places
 from feltstone.errors import BadClaim
 from feltstone.facts import Meets, Ruler, is_fact, is_kept
-from feltstone.fitting import check_case, full_lot, misfit
+from feltstone.fitting import full_lot, misfit
 from feltstone.patches import Patch, common_patch, corner_patches, cut_patch, hull_of, lies_in, low_of, reach_of
 from feltstone.places import check_direction, is_direction
 from feltstone.ratios import compare, is_ratio, is_row
 from feltstone.rounds import Parting, part_lots
-from feltstone.sure import Missed, sure_of
 
 WORDS = ("crosses", "meets", "holds", "inside", "fact")
 
@@ -77,104 +76,104 @@ def keeps_claim(stone, claim):
     return is_kept(thing, stone)
 
 
-def low_stone(case, direction):
+def low_stone(lot, direction):
     """A stone that fits with the least reach."""
-    return hull_of(low_places(full_lot(case), direction))
+    return hull_of(low_places(lot, direction))
 
 
-def high_stone(case, direction):
+def high_stone(lot, direction):
     """A stone that fits with the greatest low end."""
-    return hull_of(high_places(full_lot(case), direction))
+    return hull_of(high_places(lot, direction))
 
 
-def answer_crosses(case, direction, amount):
+def answer_crosses(lot, direction, amount):
     """The Answer to whether the stone has a place with the amount."""
-    keeping = case.whole if has_amount(case.whole, direction, amount) else None
-    lot, breaking = full_lot(case), None
+    keeping = lot[0] if has_amount(lot[0], direction, amount) else None
+    breaking = None
     if compare(least_reach(lot, direction), amount) < 0:
-        breaking = low_stone(case, direction)
+        breaking = low_stone(lot, direction)
     elif compare(greatest_low(lot, direction), amount) > 0:
-        breaking = high_stone(case, direction)
+        breaking = high_stone(lot, direction)
     return Answer(keeping, breaking)
 
 
-def answer_meets(case, patch):
+def answer_meets(lot, patch):
     """The Answer to whether the stone has a place in the patch."""
-    common = common_patch(case.whole, patch)
+    common = common_patch(lot[0], patch)
     if common is None:
-        return Answer(None, case.whole)
+        return Answer(None, lot[0])
     # A stone that misses the patch is below all of it along some direction, so below all its corners.
-    told = part_lots(full_lot(case), corner_patches(common))
-    return Answer(case.whole, hull_of(told.ones) if isinstance(told, Parting) else None)
+    told = part_lots(lot, corner_patches(common))
+    return Answer(lot[0], hull_of(told.ones) if isinstance(told, Parting) else None)
 
 
-def stone_without_some(case, places):
+def stone_without_some(lot, places):
     """A stone that fits and lacks one of the places, or None."""
     for place in places:
-        told = sure_of(case, place)
-        if isinstance(told, Missed):
-            return told.stone
+        told = part_lots(lot, (Patch((place,)),))
+        if isinstance(told, Parting):
+            return hull_of(told.ones)
     return None
 
 
-def answer_holds(case, patch):
+def answer_holds(lot, patch):
     """The Answer to whether the patch lies in the stone."""
-    if lies_in(patch, case.whole):
-        return Answer(case.whole, stone_without_some(case, patch.corners))
-    return Answer(None, case.whole)
+    if lies_in(patch, lot[0]):
+        return Answer(lot[0], stone_without_some(lot, patch.corners))
+    return Answer(None, lot[0])
 
 
-def answer_inside(case, patch):
+def answer_inside(lot, patch):
     """The Answer to whether the stone lies in the patch."""
     keeping = None
-    if all([common_patch(own, patch) is not None for own in full_lot(case)]):
-        keeping = common_patch(case.whole, patch)
-    return Answer(keeping, None if lies_in(case.whole, patch) else case.whole)
+    if all([common_patch(own, patch) is not None for own in lot]):
+        keeping = common_patch(lot[0], patch)
+    return Answer(keeping, None if lies_in(lot[0], patch) else lot[0])
 
 
-def answer_within(case, direction, amount):
+def answer_within(lot, direction, amount):
     """The Answer to whether the stone reaches no farther than the amount."""
-    low = low_stone(case, direction)
+    low = low_stone(lot, direction)
     keeping = low if compare(reach_of(low, direction), amount) <= 0 else None
-    breaking = case.whole if compare(reach_of(case.whole, direction), amount) > 0 else None
+    breaking = lot[0] if compare(reach_of(lot[0], direction), amount) > 0 else None
     return Answer(keeping, breaking)
 
 
-def answer_ruler(case, direction, amount):
+def answer_ruler(lot, direction, amount):
     """The Answer to whether the stone reaches just to the amount."""
-    low, keeping = low_stone(case, direction), None
+    low, keeping = low_stone(lot, direction), None
     least = compare(reach_of(low, direction), amount)
-    greatest = compare(reach_of(case.whole, direction), amount)
+    greatest = compare(reach_of(lot[0], direction), amount)
     if least <= 0 <= greatest:
-        keeping = cut_patch(case.whole, direction, amount)
+        keeping = cut_patch(lot[0], direction, amount)
     if greatest != 0:
-        return Answer(keeping, case.whole)
+        return Answer(keeping, lot[0])
     return Answer(keeping, low if least != 0 else None)
 
 
-def answer_fact(case, fact):
-    """The Answer to whether the stone keeps the fact."""
+def answer_fact(lot, fact):
+    """The Answer to whether the stone keeps the fact; the patches of a case are told, the whole first."""
     if isinstance(fact, Meets):
-        return answer_meets(case, fact.patch)
+        return answer_meets(lot, fact.patch)
     if isinstance(fact, Ruler):
-        return answer_ruler(case, fact.direction, fact.amount)
-    return answer_within(case, fact.direction, fact.amount)
+        return answer_ruler(lot, fact.direction, fact.amount)
+    return answer_within(lot, fact.direction, fact.amount)
 
 
 def answer_of(case, claim):
     """Stones that fit and keep the claim, and that do not, where there are such."""
     claim = check_claim(claim)
-    check_case(case)
+    lot = full_lot(case)
     word, thing = claim[0], claim[1]
     if word == "crosses":
-        return answer_crosses(case, thing, claim[2])
+        return answer_crosses(lot, thing, claim[2])
     if word == "meets":
-        return answer_meets(case, thing)
+        return answer_meets(lot, thing)
     if word == "holds":
-        return answer_holds(case, thing)
+        return answer_holds(lot, thing)
     if word == "inside":
-        return answer_inside(case, thing)
-    return answer_fact(case, thing)
+        return answer_inside(lot, thing)
+    return answer_fact(lot, thing)
 
 
 def part_fault(case, claim, told, right, keeps):

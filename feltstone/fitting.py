@@ -2,7 +2,7 @@
 
 from feltstone.errors import BadChoice, NoStones, NotFit
 from feltstone.facts import is_kept
-from feltstone.patches import common_patch, hull_of, lies_in
+from feltstone.patches import Patch, common_patch, hull_of, lies_in
 from feltstone.places import check_place, is_place
 from feltstone.ratios import is_row
 
@@ -47,6 +47,11 @@ def misfit(case, stone):
         if not is_kept(fact, stone):
             return number
     return None
+
+
+def is_stone(case, thing):
+    """Whether this is a patch that fits the case."""
+    return isinstance(thing, Patch) and misfit(case, thing) is None
 
 
 def has_as_many(case, places):

@@ -3,6 +3,7 @@
 from feltstone.errors import BadCorner, BadKept, NoArea, TooMany
 from feltstone.facts import Meets
 from feltstone.fitting import check_case
+from feltstone.lots import has_each, is_ascending, lots_among
 from feltstone.patches import hull_of
 from feltstone.places import cross_at
 from feltstone.ratios import is_row, is_whole, sum_of
@@ -87,11 +88,6 @@ def loss_of(case, one, other):
     return stride_loss(case, check_corner(case, one), check_corner(case, other))
 
 
-def is_ascending(numbers):
-    """Whether each number is above the one before it."""
-    return all([one < other for one, other in zip(numbers, numbers[1:])])
-
-
 def is_corner_row(case, kept):
     """Whether this is a list or tuple of strictly ascending corners, of one or more."""
     if not is_row(kept) or len(kept) == 0 or not all([is_corner(case, number) for number in kept]):
@@ -99,16 +95,11 @@ def is_corner_row(case, kept):
     return is_ascending(kept)
 
 
-def has_each_ruler(rows, kept):
-    """Whether corners have one of each row."""
-    return all([any([end in kept for end in ends]) for ends in rows])
-
-
 def kept_word(case, kept):
     """What keeps this from being a kept lot, or None."""
     if not is_corner_row(case, kept):
         return "corner"
-    return None if has_each_ruler(ends_alone(case), kept) else "ruler"
+    return None if has_each(kept, ends_alone(case)) else "ruler"
 
 
 def check_kept(case, kept):
@@ -130,21 +121,12 @@ def kept_hull(case, kept):
     return hull_at(case, check_kept(case, kept))
 
 
-def lots_below(many):
-    """All ascending tuples of numbers below `many`, one number or more: those of fewer first, then ascending."""
-    lots, longest = [], [()]
-    for _ in range(many):
-        longest = [(*lot, number) for lot in longest for number in range(many) if not lot or number > lot[-1]]
-        lots.extend(longest)
-    return lots
-
-
 def is_tight(rows, kept):
     """Whether corners have one of each row, and no lot is left that has if any one of them is left out."""
-    if not has_each_ruler(rows, kept):
+    if len(kept) == 0 or not has_each(kept, rows):
         return False
     rests = [[one for one in kept if one != number] for number in kept]
-    return not any([len(rest) > 0 and has_each_ruler(rows, rest) for rest in rests])
+    return not any([len(rest) > 0 and has_each(rest, rows) for rest in rests])
 
 
 def tight_lots(case):
@@ -152,6 +134,7 @@ def tight_lots(case):
     rows = ends_alone(case)
     if len(case.whole) > MOST_CORNERS_FOR_ALL:
         raise TooMany(MOST_CORNERS_FOR_ALL)
-    for lot in lots_below(len(case.whole)):
+    many = len(case.whole)
+    for lot in lots_among(list(range(many)), many):
         if is_tight(rows, lot):
             yield lot

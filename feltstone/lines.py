@@ -3,8 +3,7 @@
 from feltstone.cases import Case
 from feltstone.critical import greatest_low, least_reach
 from feltstone.errors import BadLine
-from feltstone.fitting import full_lot
-from feltstone.meeting import is_stone
+from feltstone.fitting import full_lot, is_stone
 from feltstone.patches import Patch, cut_patch, low_of, reach_of
 from feltstone.places import check_direction
 from feltstone.ratios import compare, greatest_of, is_row, is_whole

@@ -1,7 +1,7 @@
 """Whether the stones of two cases meet: in every pair of them, in some, or in none."""
 
-from feltstone.fitting import check_case, full_lot, misfit, numbers_of
-from feltstone.patches import Patch, common_patch, corner_patches, hull_of, low_of, reach_of
+from feltstone.fitting import check_case, full_lot, is_stone, numbers_of
+from feltstone.patches import common_patch, corner_patches, hull_of, low_of, reach_of
 from feltstone.places import is_direction
 from feltstone.ratios import compare, is_row, is_whole
 from feltstone.rounds import Round, are_entries, part_lots, round_fault
@@ -61,11 +61,6 @@ def meeting(case, other):
 def is_below(one, other, direction):
     """Whether all amounts of a patch are below all of another one."""
     return compare(reach_of(one, direction), low_of(other, direction)) < 0
-
-
-def is_stone(case, thing):
-    """Whether this is a patch that fits the case."""
-    return isinstance(thing, Patch) and misfit(case, thing) is None
 
 
 def is_number_in(thing, numbers):

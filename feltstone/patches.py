@@ -64,6 +64,11 @@ def patch_or_none(places):
     return hull_of(places) if places else None
 
 
+def box_of(xs, ys):
+    """The least patch with sides along the axes that has each place with one number of either row."""
+    return hull_of([(x, y) for x in xs for y in ys])
+
+
 def corner_patches(patch):
     """For each corner the patch of that corner alone."""
     return tuple([Patch((corner,)) for corner in patch.corners])
@@ -144,6 +149,15 @@ def line_patch(patch, direction, amount):
 def common_patch(one, other):
     """The patch of all places that lie in both, or None."""
     return part_in_halves(one, halves_of(other))
+
+
+def common_of(patches):
+    """The patch of all places that lie in each of some patches, or None."""
+    common = patches[0]
+    for patch in patches[1:]:
+        if common is not None:
+            common = common_patch(common, patch)
+    return common
 
 
 def lies_in(one, other):

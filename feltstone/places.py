@@ -3,8 +3,8 @@
 from math import gcd
 
 from feltstone.errors import BadAmount, BadDirection, BadPlace, BadSize
-from feltstone.ratios import compare, is_ratio, is_row, is_whole, lowest_terms, minus, negative, over, plus
-from feltstone.ratios import sign_of, sum_of, times
+from feltstone.ratios import ONE, ZERO, compare, greatest_of, is_ratio, is_row, is_whole, least_of, lowest_terms
+from feltstone.ratios import minus, negative, over, plus, sign_of, sum_of, times
 
 AXES = ((1, 0), (0, 1), (-1, 0), (0, -1))
 
@@ -218,6 +218,29 @@ def grow_place(place, size):
     """Both numbers of the place times a ratio."""
     x, y = place
     return (times(x, size), times(y, size))
+
+
+def product_of(one, other):
+    """The sum of the products of both numbers of two steps."""
+    return plus(times(one[0], other[0]), times(one[1], other[1]))
+
+
+def square_of(step):
+    """The square of the length of a step."""
+    return product_of(step, step)
+
+
+def square_along(space, direction):
+    """The square of a space, measured as a distance along the direction."""
+    return over(times(space, space), (direction[0] * direction[0] + direction[1] * direction[1], 1))
+
+
+def nearest_share(place, step):
+    """The share, from 0 to 1, of a step from a place that leads nearest to (0, 0)."""
+    length = square_of(step)
+    if length == ZERO:
+        return ZERO
+    return greatest_of((ZERO, least_of((ONE, over(negative(product_of(place, step)), length)))))
 
 
 def compare_places(one, other):

@@ -2,8 +2,11 @@
 
 from feltstone.cases import Case
 from feltstone.facts import Meets
-from feltstone.fitting import has_stone
+from feltstone.fitting import empty_patches, has_stone
+from feltstone.lots import has_all, is_ascending, lots_among
 from feltstone.ratios import is_row, is_whole
+
+MOST_IN_QUARREL = 3
 
 
 class Quarrel:
@@ -16,22 +19,9 @@ class Quarrel:
         return isinstance(other, Quarrel) and self.facts == other.facts
 
 
-def small_lots(many):
-    """All ascending tuples of one, two or three numbers below `many`: fewer numbers first, then ascending."""
-    ones = [(one,) for one in range(many)]
-    twos = [(one, two) for one in range(many) for two in range(one + 1, many)]
-    threes = [(one, two, three) for one, two in twos for three in range(two + 1, many)]
-    return ones + twos + threes
-
-
 def is_kept_together(case, lot):
     """Whether some stone of the table keeps all facts with these numbers."""
     return has_stone(Case(case.table, [case.facts[number] for number in lot]))
-
-
-def has_all(lot, numbers):
-    """Whether all of the numbers stand in the lot."""
-    return all([number in lot for number in numbers])
 
 
 def may_be_least(case, lot, found):
@@ -46,7 +36,7 @@ def may_be_least(case, lot, found):
 def quarrels_of(case):
     """All quarrels of a case: those of fewer facts first, then ascending."""
     found = []
-    for lot in small_lots(len(case)):
+    for lot in lots_among(list(range(len(case))), MOST_IN_QUARREL):
         # Lots of fewer facts come first, so all quarrels that may stand in this one are found already.
         if may_be_least(case, lot, found) and not is_kept_together(case, lot):
             found.append(lot)
@@ -60,13 +50,25 @@ def any_stone(case):
     return Quarrel(quarrels_of(case)[0])
 
 
+def some_quarrel(case):
+    """A quarrel of a case without a stone: each fact is left out without which there still is no stone."""
+    # Halves alone, and where these leave a whole, one Meets with them, make the first empty patch empty.
+    empty = empty_patches(case)[0]
+    numbers = [number for number, fact in enumerate(case.facts) if number == empty or not isinstance(fact, Meets)]
+    for number in list(numbers):
+        rest = [one for one in numbers if one != number]
+        if not is_kept_together(case, rest):
+            numbers = rest
+    return Quarrel(tuple(numbers))
+
+
 def is_lot(case, facts):
     """Whether this is a list or tuple of one or more ascending, unlike numbers of facts of the case."""
     if not is_row(facts) or len(facts) == 0:
         return False
     if not all([is_whole(number, 0, len(case) - 1) for number in facts]):
         return False
-    return all([one < other for one, other in zip(facts, facts[1:])])
+    return is_ascending(facts)
 
 
 def quarrel_fault(case, facts):

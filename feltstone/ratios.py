@@ -31,6 +31,11 @@ def is_ratio(thing):
     return is_whole(thing[0]) and is_whole(thing[1], 1) and gcd(thing[0], thing[1]) == 1
 
 
+def is_from_zero(thing):
+    """Whether a thing is a ratio that is not below 0."""
+    return is_ratio(thing) and thing[0] >= 0
+
+
 def lowest_terms(top, bottom):
     """The ratio of two whole numbers; the bottom is not 0, but may be below 0."""
     if bottom == 1:

@@ -132,14 +132,18 @@ def parting_behind(patches, others, arcs, direction):
     return Parting(found, low_places(patches, found), high_places(others, found))
 
 
-def part_lots(patches, others):
-    """A Parting of two lots, or a Round where no direction parts them."""
-    check_lots(patches, others)
-    arcs = arcs_of_lots(patches, others)
+def part_by_arcs(patches, others, arcs):
+    """What part_lots tells of two lots, of which all arcs are told."""
     entries, end = walk_round(arcs, arcs[0][0] if arcs else AXES[0])
     if end is None:
         return Round(tuple(entries))
     return parting_behind(patches, others, arcs, end)
+
+
+def part_lots(patches, others):
+    """A Parting of two lots, or a Round where no direction parts them."""
+    check_lots(patches, others)
+    return part_by_arcs(patches, others, arcs_of_lots(patches, others))
 
 
 def has_a_place_each(lot, places):

@@ -4,12 +4,11 @@ from feltstone.corners import couples_round
 from feltstone.critical import farthest_round, greatest_low, high_places, least_reach, least_together, low_places
 from feltstone.critical import lowest_places
 from feltstone.evens import corners_together, opposite_patch
-from feltstone.fitting import full_lot
-from feltstone.meeting import is_stone
+from feltstone.fitting import full_lot, is_stone
 from feltstone.patches import common_patch, cut_patch, hull_of, low_of, reach_of
-from feltstone.places import across, amount_at, check_amount, check_direction, direction_of, is_direction, opposite
-from feltstone.places import place_by, place_on, step_from
-from feltstone.ratios import ONE, ZERO, compare, greatest_of, is_ratio, least_of, minus, negative, over, plus, times
+from feltstone.places import across, amount_at, check_amount, check_direction, direction_of, is_direction
+from feltstone.places import nearest_share, opposite, place_by, place_on, square_along, square_of, step_from
+from feltstone.ratios import ZERO, compare, is_ratio, least_of, minus, negative, plus
 from feltstone.reaches import check_met
 from feltstone.sums import check_both
 
@@ -50,29 +49,6 @@ def pair_of_space(case, other, direction, amount):
     low = least_of((plus(reach_of(case.whole, direction), amount), greatest_low(full_lot(other), direction)))
     first = cut_patch(case.whole, direction, minus(low, amount))
     return (first, cut_patch(other.whole, opposite(direction), negative(low)))
-
-
-def product_of(one, other):
-    """The sum of the products of both numbers of two steps."""
-    return plus(times(one[0], other[0]), times(one[1], other[1]))
-
-
-def square_of(step):
-    """The square of the length of a step."""
-    return product_of(step, step)
-
-
-def square_along(space, direction):
-    """The square of a space, measured as a distance along the direction."""
-    return over(times(space, space), (direction[0] * direction[0] + direction[1] * direction[1], 1))
-
-
-def nearest_share(place, step):
-    """The share, from 0 to 1, of a step from a place that leads nearest to (0, 0)."""
-    length = square_of(step)
-    if length == ZERO:
-        return ZERO
-    return greatest_of((ZERO, least_of((ONE, over(negative(product_of(place, step)), length)))))
 
 
 def nearest_couple(one, other):

@@ -2,7 +2,7 @@
 
 from feltstone.evens import opposite_patch, sum_patches
 from feltstone.fitting import check_case, full_lot
-from feltstone.patches import common_patch, halves_of, part_in_halves, reach_of, shift_patch
+from feltstone.patches import common_of, halves_of, part_in_halves, reach_of, shift_patch
 from feltstone.places import opposite
 from feltstone.ratios import minus
 from feltstone.sums import check_both, sure_sums_of_lots
@@ -38,8 +38,6 @@ def sure_holds(case, other):
 
 def possible_holds(case, other):
     """The patch of all steps by which the first stone lies in the second one in some pair, or None."""
-    steps = possible_steps(case, other)
-    for patch in full_lot(case):
-        if steps is not None:
-            steps = common_patch(steps, sum_patches(patch, opposite_patch(other.whole)))
-    return steps
+    check_both(case, other)
+    back = opposite_patch(other.whole)
+    return common_of([sum_patches(patch, back) for patch in full_lot(case)])

@@ -2,7 +2,7 @@
 
 from feltstone.critical import floors_of, high_corner, part_above
 from feltstone.fitting import check_case, full_lot, misfit
-from feltstone.patches import Patch, common_patch, halves_of, hull_of, low_of
+from feltstone.patches import Patch, box_of, common_of, halves_of, hull_of, low_of
 from feltstone.places import AXES, amount_at, is_direction, opposite, order_round, turn_of
 from feltstone.ratios import compare, is_ratio, is_row, negative, plus
 from feltstone.rounds import Parting, part_lots, turning_fault
@@ -67,7 +67,7 @@ def axes_apart(floors):
 def box_above(floors):
     """The patch of all places above the floors along the axes, where there are such places."""
     left, low, right, high = amounts_on_axes(floors)
-    return hull_of([(x, y) for x in (left, negative(right)) for y in (low, negative(high))])
+    return box_of((left, negative(right)), (low, negative(high)))
 
 
 def farthest_turned(way, ways, sign):
@@ -148,7 +148,8 @@ def square_round(floors, ground):
     amount = greatest_figure([top for _, (top, _) in floors])
     edge = greatest_figure([top for place in ground.corners for top, _ in place])
     far = 2 * figure * amount + edge + 1
-    return hull_of([((x, 1), (y, 1)) for x in (-far, far) for y in (-far, far)])
+    ends = ((-far, 1), (far, 1))
+    return box_of(ends, ends)
 
 
 def has_needless(floors, square, sure):
@@ -196,15 +197,6 @@ def stones_apart(case):
 def are_stones(told):
     """Whether this is a sequence of two or three patches."""
     return is_row(told) and len(told) in (2, 3) and all([isinstance(stone, Patch) for stone in told])
-
-
-def common_of(stones):
-    """The patch of all places that lie in each of some stones, or None."""
-    common = stones[0]
-    for stone in stones:
-        if common is not None:
-            common = common_patch(common, stone)
-    return common
 
 
 def apart_fault(case, told):
