@@ -1,24 +1,47 @@
 """Rows of corners: the least convex lot round places, and what halves leave of it."""
 
 from feltstone.places import compare_amount, compare_places, order_places, turn_at, whole_row
-from feltstone.ratios import lowest_terms
+from feltstone.ratios import lowest_terms, sign_of
 
 
-def left_chain(places):
-    """The places, in their order, that are left when all are dropped at which the way does not turn left."""
+def rough_place(place):
+    """Both numbers of a place times 2 ** 64, cut down to whole numbers, so too low by less than 1."""
+    (x, bottom), (y, other_bottom) = place
+    return (x * 2 ** 64 // bottom, y * 2 ** 64 // other_bottom)
+
+
+def rough_turn(first, second, third):
+    """What turn_at tells of three places, by their rough ones, or 0 where these do not tell it."""
+    (ax, ay), (bx, by), (cx, cy) = first, second, third
+    dx, dy, ex, ey = bx - ax, by - ay, cx - ax, cy - ay
+    cross = dx * ey - dy * ex
+    # Each of the four numbers is off by less than 1, so the cross product by less than this.
+    off = abs(dx) + abs(dy) + abs(ex) + abs(ey) + 2
+    return 0 if abs(cross) < off else sign_of(cross)
+
+
+def turns_left(first, second, third):
+    """Whether three places, each told with its rough one, turn left."""
+    # Of long numbers the rough ones tell it much sooner.
+    turn = rough_turn(first[1], second[1], third[1]) or turn_at(first[0], second[0], third[0])
+    return turn > 0
+
+
+def left_chain(rows):
+    """The places of some rows, in their order, without those at which the way does not turn left."""
     chain = []
-    for place in places:
-        while len(chain) > 1 and turn_at(chain[-2], chain[-1], place) <= 0:
+    for row in rows:
+        while len(chain) > 1 and not turns_left(chain[-2], chain[-1], row):
             chain.pop()
-        chain.append(place)
-    return chain
+        chain.append(row)
+    return [place for place, _ in chain]
 
 
 def hull_corners(places):
     """The corners, as a patch has them, of the least convex lot with one place or more."""
-    rows = order_places(places)
+    rows = [(place, rough_place(place)) for place in order_places(places)]
     if len(rows) == 1:
-        return (rows[0],)
+        return (rows[0][0],)
     there, back = left_chain(rows), left_chain(rows[::-1])
     return tuple(there[:-1] + back[:-1])
 

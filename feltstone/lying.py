@@ -1,9 +1,9 @@
 """Whether the first stone of a pair lies in the second one: in every pair, in some, or in none."""
 
 from feltstone.fitting import check_case, full_patches, is_stone, numbers_of
-from feltstone.meeting import direction_apart, is_number_in, never_fault
+from feltstone.meeting import direction_apart, never_fault
 from feltstone.patches import common_patch, lies_in
-from feltstone.ratios import is_row
+from feltstone.ratios import is_number_in, is_row
 from feltstone.sure import Missed, Sure, sure_fault, sure_of
 
 

@@ -3,7 +3,7 @@
 from feltstone.fitting import check_case, full_lot, is_stone, numbers_of
 from feltstone.patches import common_patch, corner_patches, hull_of, low_of, reach_of
 from feltstone.places import is_direction
-from feltstone.ratios import compare, is_row, is_whole
+from feltstone.ratios import compare, is_number_in, is_row
 from feltstone.rounds import Round, are_entries, part_lots, round_fault
 
 
@@ -61,11 +61,6 @@ def meeting(case, other):
 def is_below(one, other, direction):
     """Whether all amounts of a patch are below all of another one."""
     return compare(reach_of(one, direction), low_of(other, direction)) < 0
-
-
-def is_number_in(thing, numbers):
-    """Whether this is one of some whole numbers."""
-    return is_whole(thing) and thing in numbers
 
 
 def is_meeting_entry(entry, numbers, others):

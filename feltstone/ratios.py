@@ -24,6 +24,11 @@ def is_whole(thing, low=None, high=None):
     return (low is None or thing >= low) and (high is None or thing <= high)
 
 
+def is_number_in(thing, numbers):
+    """Whether this is one of some whole numbers."""
+    return is_whole(thing) and thing in numbers
+
+
 def is_ratio(thing):
     """Whether a thing is a ratio."""
     if not isinstance(thing, tuple) or len(thing) != 2:

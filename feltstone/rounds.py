@@ -1,10 +1,10 @@
 """Whether a direction parts two lots of patches, and the rounds that show that none does."""
 
-from feltstone.corners import couples_round
+from feltstone.corners import couples_round, hull_corners
 from feltstone.critical import check_lots, critical_for, greatest_low, high_places, least_reach, low_places
-from feltstone.patches import low_of, reach_of
+from feltstone.patches import corner_patches, hull_of, low_of, reach_of
 from feltstone.places import AXES, across, amount_at, between_of, check_direction, is_direction, is_place, opposite
-from feltstone.places import quarter_of, raw_step, turn_of, whole_direction
+from feltstone.places import quarter_of, raw_step, side_normal, turn_of, whole_direction
 from feltstone.ratios import compare, greatest_of, is_row, is_whole, least_of
 
 
@@ -91,6 +91,47 @@ def arcs_of_lots(patches, others):
     ]
 
 
+def arcs_at_corner(before, corner, behind):
+    """The arcs, one or two, of all directions along which a corner of a patch between two others is the lowest."""
+    first, last = opposite(side_normal(before, corner)), opposite(side_normal(corner, behind))
+    if turn_of(first, last) > 0:
+        return [(first, last)]
+    # The patch is a stretch, and the corner is the lowest for a half turn.
+    middle = across(first)
+    return [(first, middle), (middle, last)]
+
+
+def joined_arcs(arcs):
+    """As few arcs as have the same directions as some arcs in round order, each less than a half turn."""
+    joined = []
+    for first, last in arcs:
+        if joined and joined[-1][1] == first and turn_of(joined[-1][0], last) > 0:
+            joined[-1] = (joined[-1][0], last)
+        else:
+            joined.append((first, last))
+    return joined
+
+
+def arcs_to_target(patch, target):
+    """The arcs of all directions along which no place of a patch is below all of a target.
+
+    Just along these the least patch that has both in it has a corner of the target as its lowest place.
+    """
+    corners = hull_corners([*patch.corners, *target.corners])
+    if len(corners) == 1:
+        return couples_round(AXES)
+    arcs = []
+    for (before, corner), (_, behind) in couples_round(couples_round(corners)):
+        if corner in target.corners:
+            arcs.extend(arcs_at_corner(before, corner, behind))
+    return joined_arcs(arcs)
+
+
+def arcs_of_target(lot, target):
+    """Rows (first, last, index, 0): the arcs of the patches of a lot with a target."""
+    return [(first, last, index, 0) for index, patch in enumerate(lot) for first, last in arcs_to_target(patch, target)]
+
+
 def farthest_arc(arcs, direction):
     """Of the arcs that have a direction and more to its left, the one that goes on farthest, or None."""
     farthest = None
@@ -138,6 +179,15 @@ def part_by_arcs(patches, others, arcs):
     if end is None:
         return Round(tuple(entries))
     return parting_behind(patches, others, arcs, end)
+
+
+def stone_below(lot, target, arcs):
+    """The hull of places of all patches of a lot that are below a target along some direction, or None.
+
+    The arcs of all patches with the target are told.
+    """
+    told = part_by_arcs(lot, corner_patches(target), arcs)
+    return hull_of(told.ones) if isinstance(told, Parting) else None
 
 
 def part_lots(patches, others):

@@ -4,7 +4,7 @@ from feltstone.critical import floors_of, greatest_low, high_places, part_above
 from feltstone.fitting import check_case, full_lot, misfit, numbers_of
 from feltstone.patches import Patch, hull_of, reach_of
 from feltstone.places import amount_at, check_direction, check_place, is_direction
-from feltstone.ratios import compare, is_row, is_whole
+from feltstone.ratios import compare, is_number_in, is_row
 from feltstone.rounds import Round, are_entries, part_lots, round_fault
 
 
@@ -72,7 +72,7 @@ def is_sure_entry(entry, numbers):
     """Whether this is a sequence of a direction and one of the numbers."""
     if not is_row(entry) or len(entry) != 2:
         return False
-    return is_direction(entry[0]) and is_whole(entry[1]) and entry[1] in numbers
+    return is_direction(entry[0]) and is_number_in(entry[1], numbers)
 
 
 def sure_fault(case, place, told):

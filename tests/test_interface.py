@@ -56,9 +56,24 @@ FUNCTIONS = {
              "orders_along(cases, direction)",
     "evens": "sum_patches(one, other) opposite_patch(patch) difference_range(patch, direction) is_even(patch) "
              "even_of(patch)",
+    "calipers": "check_readings(readings) readings_of(stone, directions) caliper_misfit(readings, stone) "
+                "caliper_quarrels(readings) even_whole(readings)",
+    "newbreadth": "new_breadth(readings, direction) stone_of_new_breadth(readings, direction, breadth) span_of(patch) "
+                  "span_range(readings) least_span_stone(readings) needless_readings(readings) "
+                  "alike_calipers(readings, others)",
+    "evenareas": "greatest_caliper_area(readings) least_even_area(readings) least_even_fault(readings, least)",
+    "gaps": "least_breadth(patch) gap_range(case) least_gap(case) gap_fault(case, gap) goes_through(case, breadth)",
+    "boxes": "check_box(width, height) held_at(case, low, width, height) some_box_places(case, width, height) "
+             "every_box_places(case, width, height) box_verdict(case, width, height) "
+             "box_fault(case, width, height, told)",
+    "heights": "least_height(case, width) least_boxes(case, widths)",
+    "telling": "check_directions(directions, most) check_stone(table, stone) ruler_on(stone, direction) "
+               "rulers_on(stone, directions) one_stone(case) one_stone_fault(case, told) "
+               "tells_wholly(table, stone, directions) telling_fault(table, stone, directions, told) "
+               "least_tellers(table, stone) tellers_fault(table, stone, directions)",
 }
 
-GENERATORS = {"corner_choices", "neighbours_round", "tight_lots", "growing_stones"}
+GENERATORS = {"corner_choices", "neighbours_round", "tight_lots", "growing_stones", "least_boxes"}
 
 LEADS = "shifted(self, step) turned(self) mirrored(self) grown(self, size)"
 
@@ -90,6 +105,15 @@ CLASSES = {
     ("spaces", "Farthest(square, direction, one, other)"): ("", "__eq__", ""),
     ("lines", "LinedUp(stones)"): ("", "__eq__", ""),
     ("lines", "Blocked(first, second)"): ("", "__eq__", ""),
+    ("calipers", "Uneven(quarrel)"): ("", "__eq__", ""),
+    ("newbreadth", "Differing(which, stone)"): ("", "__eq__", ""),
+    ("evenareas", "LeastEven(twice, kept)"): ("", "__eq__", ""),
+    ("gaps", "Gap(square, direction, stone)"): ("", "__eq__", ""),
+    ("boxes", "HoldsAll(low)"): ("", "__eq__", ""),
+    ("boxes", "HoldsSome(low, stone)"): ("", "__eq__", ""),
+    ("boxes", "HoldsNone(numbers)"): ("", "__eq__", ""),
+    ("telling", "Single(stone, tellers)"): ("", "__eq__", ""),
+    ("telling", "Several(one, other)"): ("", "__eq__", ""),
 }
 
 
