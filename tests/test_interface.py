@@ -71,6 +71,14 @@ FUNCTIONS = {
                "rulers_on(stone, directions) one_stone(case) one_stone_fault(case, told) "
                "tells_wholly(table, stone, directions) telling_fault(table, stone, directions, told) "
                "least_tellers(table, stone) tellers_fault(table, stone, directions)",
+    "settling": "settles(case, directions, place) settling_fault(case, directions, place, told) "
+                "least_settlers(case, pool, place)",
+    "liars": "lots_of_liars(case, most) liars_fault(case, most, lots)",
+    "withliars": "sure_liars(case, most) sure_truths(case, most) stone_breaking(case, most, number) "
+                 "verdict_with_liars(case, most, place) reaches_with_liars(case, most, direction)",
+    "changes": "check_changes(case, changes) case_after(case, changes)",
+    "wishes": "check_wishes(wishes) broken_wish(case, wishes) broken_fault(case, wishes, broken)",
+    "mends": "find_mends(case, pool, wishes) mends_fault(case, pool, wishes, mends) find_spoilers(case, pool, wishes)",
 }
 
 GENERATORS = {"corner_choices", "neighbours_round", "tight_lots", "growing_stones", "least_boxes"}
@@ -114,6 +122,13 @@ CLASSES = {
     ("boxes", "HoldsNone(numbers)"): ("", "__eq__", ""),
     ("telling", "Single(stone, tellers)"): ("", "__eq__", ""),
     ("telling", "Several(one, other)"): ("", "__eq__", ""),
+    ("settling", "Unsettled(one, other)"): ("", "__eq__", ""),
+    ("wishes", "Broken(index, why)"): ("", "__eq__", ""),
+    ("mends", "Mends(least, losses)"): ("needed", "__eq__", ""),
+    ("mends", "Spoiler(choice, added, broken)"): ("", "__eq__", ""),
+    ("book", "Book(table)"): (
+        "", "__len__ __iter__", "put(self, fact) take_back(self, number) whole_now(self) sure_now(self) "
+        "broken_now(self, wishes) trial(self) tried(self, call)"),
 }
 
 
