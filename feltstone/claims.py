@@ -4,10 +4,10 @@ from feltstone.critical import greatest_low, high_places, least_reach, low_place
 from feltstone.errors import BadClaim
 from feltstone.facts import Meets, Ruler, is_fact, is_kept
 from feltstone.fitting import full_lot, misfit
-from feltstone.patches import Patch, common_patch, cut_patch, hull_of, lies_in, low_of, reach_of
+from feltstone.patches import Patch, common_patch, corner_patches, cut_patch, hull_of, lies_in, low_of, reach_of
 from feltstone.places import check_direction, is_direction
 from feltstone.ratios import compare, is_ratio, is_row
-from feltstone.rounds import Parting, arcs_of_target, part_lots, stone_below
+from feltstone.rounds import Parting, part_lots
 
 WORDS = ("crosses", "meets", "holds", "inside", "fact")
 
@@ -102,8 +102,9 @@ def answer_meets(lot, patch):
     common = common_patch(lot[0], patch)
     if common is None:
         return Answer(None, lot[0])
-    # A stone that misses the patch is below all of it along some direction.
-    return Answer(lot[0], stone_below(lot, common, arcs_of_target(lot, common)))
+    # A stone that misses the patch is below all of it along some direction, so below all its corners.
+    told = part_lots(lot, corner_patches(common))
+    return Answer(lot[0], hull_of(told.ones) if isinstance(told, Parting) else None)
 
 
 def stone_without_some(lot, places):

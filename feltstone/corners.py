@@ -1,13 +1,7 @@
 """Rows of corners: the least convex lot round places, and what halves leave of it."""
 
-from feltstone.places import compare_amount, compare_places, order_places, turn_at, whole_row
+from feltstone.places import compare_amount, compare_places, order_places, rough_place, turn_at, whole_row
 from feltstone.ratios import lowest_terms, sign_of
-
-
-def rough_place(place):
-    """Both numbers of a place times 2 ** 64, cut down to whole numbers, so too low by less than 1."""
-    (x, bottom), (y, other_bottom) = place
-    return (x * 2 ** 64 // bottom, y * 2 ** 64 // other_bottom)
 
 
 def rough_turn(first, second, third):

@@ -3,7 +3,7 @@
 from feltstone.critical import floors_of
 from feltstone.errors import BadBreadth
 from feltstone.evens import opposite_patch, sum_patches
-from feltstone.fitting import check_case, full_lot, is_stone
+from feltstone.fitting import full_lot, is_stone
 from feltstone.patches import breadth_of, halves_of
 from feltstone.places import AXES, across, direction_of, is_direction, side_normal, square_along, step_from
 from feltstone.ratios import ZERO, compare, greatest_of, is_from_zero, is_ratio, negative, times
@@ -96,7 +96,6 @@ def goes_through(case, breadth):
     """Whether all stones that fit go through an opening of this breadth, none, or some."""
     if not is_from_zero(breadth):
         raise BadBreadth()
-    check_case(case)
     square = times(breadth, breadth)
     least, greatest = gap_range(case)
     if compare(greatest, square) <= 0:

@@ -248,9 +248,27 @@ def compare_places(one, other):
     return compare(one[0], other[0]) or compare(one[1], other[1])
 
 
+def rough_place(place):
+    """Both numbers of a place times 2 ** 64, cut down to whole numbers, so too low by less than 1."""
+    (x, bottom), (y, other_bottom) = place
+    return (x * 2 ** 64 // bottom, y * 2 ** 64 // other_bottom)
+
+
+def are_told_apart(row, following):
+    """Whether the rough places of two rows (rough place, place), neighbours in order, tell the order of the places."""
+    (rough, place), (next_rough, next_place) = row, following
+    if rough[0] != next_rough[0]:
+        return True
+    return place[0] == next_place[0] and rough[1] != next_rough[1]
+
+
 def order_places(places):
     """A list of the unlike places, ascending by x, then by y."""
     unlike = list({(x, y): True for x, y in places})
-    scale = max([max(x[1], y[1]) for x, y in unlike], default=1) ** 2
+    rows = sorted([(rough_place(place), place) for place in unlike])
+    # Of long numbers the rough ones are told much sooner, and mostly they tell the order.
+    if all([are_told_apart(row, following) for row, following in zip(rows, rows[1:])]):
+        return [place for _, place in rows]
+    scale = max([max(x[1], y[1]) for x, y in unlike]) ** 2
     keyed = [(scaled_floor(x[0], x[1], scale), scaled_floor(y[0], y[1], scale), (x, y)) for x, y in unlike]
     return [row[2] for row in sorted(keyed)]

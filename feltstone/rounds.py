@@ -74,9 +74,19 @@ def narrowed_arc(arc, steps):
     return (whole_direction(first[0], first[1]), whole_direction(last[0], last[1]))
 
 
+def outer_steps(place, patch):
+    """Steps from a place to corners of a patch: where none of them leads back along a direction, no step to it does."""
+    corners = hull_corners([place, *patch.corners])
+    if place not in corners:
+        return [raw_step(place, corner) for corner in patch.corners]
+    # All other corners lie between the two that are next to the place.
+    at = corners.index(place)
+    return [raw_step(place, corners[at - 1]), raw_step(place, corners[(at + 1) % len(corners)])]
+
+
 def arcs_of_patches(one, other):
     """The arcs of all directions along which the first patch is nowhere below the second, each within a quarter."""
-    steps = [raw_step(place, corner) for corner in one.corners for place in other.corners]
+    steps = [step for place in other.corners for step in outer_steps(place, one)]
     arcs = [narrowed_arc(quarter, steps) for quarter in couples_round(AXES)]
     return [arc for arc in arcs if arc is not None]
 

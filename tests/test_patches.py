@@ -12,7 +12,7 @@ from feltstone.patches import (
 from feltstone.places import side_normal
 from feltstone.ratios import HALF, ZERO
 from tests.makers import (
-    DIRECTIONS, HEXAGON, JUNK, POINT, SHAPES, SQUARE, STRETCH, TRIANGLE, UPRIGHT, amount, grid, holds, is_told_as_patch,
+    DIRECTIONS, HEXAGON, JUNK, POINT, SHAPES, SQUARE, STRETCH, TRIANGLE, UPRIGHT, amount, cross, grid, holds, is_told_as_patch,
     numbers, p, patch, ps, r, some_places, source,
 )
 
@@ -237,6 +237,30 @@ class Hulls(unittest.TestCase):
         far, near = 10 ** 299, Fraction(1, LONG)
         corners = ps((-far, 0), (0, -near), (far, 0), (0, near))
         self.assertEqual(hull_of(corners[::-1] + ps((0, 0), (far - 1, 0))).corners, corners)
+
+    def test_three_places_that_are_all_but_along_one_line(self):
+        picks, turns = source(143), set()
+        for _ in range(600):
+            # On the line, about as near to it as 2 ** -64, or much nearer, whatever the way and the length of the steps.
+            tiny = picks.choice([0, Fraction(1, 2 ** picks.choice([62, 64, 65, 66, 68, 300]))])
+            dx, dy = [Fraction(picks.randint(-900, 900), picks.choice([1, 3, 7])) for _ in "xy"]
+            places = [p(k * dx + tiny * picks.randint(-9, 9), k * dy + tiny * picks.randint(-9, 9)) for k in (-1, picks.choice([0, Fraction(1, 3)]), 2)]
+            told = hull_of(places)
+            self.assertTrue(is_told_as_patch(told.corners))
+            self.assertTrue(all(holds(told.corners, place) for place in places))
+            self.assertEqual(len(told), 3 if cross(*places) else min(2, len(set(places))))
+            turns.add((cross(*places) > 0) - (cross(*places) < 0))
+        self.assertEqual(turns, {1, 0, -1})
+
+    def test_places_that_are_all_but_one_place(self):
+        picks = source(144)
+        for _ in range(200):
+            tiny, far = Fraction(1, 2 ** picks.choice([60, 63, 64, 65, 70, 400])), picks.choice([0, Fraction(1, 3), -7])
+            places = [p(far + tiny * picks.randint(-2, 2), picks.choice([1, far]) + tiny * picks.randint(-3, 3)) for _ in range(picks.randint(1, 9))]
+            told = hull_of(places)
+            self.assertTrue(is_told_as_patch(told.corners))
+            self.assertTrue(set(told.corners) <= set(places))
+            self.assertTrue(all(holds(told.corners, place) for place in places))
 
     def test_corner_patches(self):
         for shape in SHAPES:

@@ -211,6 +211,10 @@ class Verdicts(unittest.TestCase):
                 (0, (10, 0), "never"), (3, (10, 0), "never"), (0, (0, 0), "maybe")]
         for most, place, due in rows:
             self.assertEqual(verdict_with_liars(three, most, p(*place)), due)
+        # Without the one fact no stone has the place, without the other all have it.
+        either = Case(TABLE, [meets((1, 1)), within(1, 0, 0)])
+        self.assertEqual(verdict_with_liars(either, 1, p(1, 1)), "maybe")
+        self.assertEqual(verdict_with_liars(Case(TABLE, either.facts[::-1]), 1, p(1, 1)), "maybe")
         self.assertEqual(verdict_with_liars(BOX, 0, p(2, 1)), "always")
         self.assertEqual(verdict_with_liars(BOX, 1, p(2, 1)), "maybe")
         self.assertEqual(verdict_with_liars(BOX, 1, p(5, 1)), "maybe")
@@ -299,7 +303,7 @@ class Reaches(unittest.TestCase):
 class ManyFigures(unittest.TestCase):
     def test_twelve_facts(self):
         picks = source(934)
-        for figures, every, most in ((60, 1, 3), (300, 0, 3), (300, 3, 2), (150, 2, 3)):
+        for figures, every, most in ((60, 1, 3), (300, 0, 3), (300, 3, 2)):
             case = twelve_facts(figures, every)
             truths = sure_truths(case, most)
             for k in (0, 5, 11):
