@@ -52,8 +52,8 @@ def lot_area(corners, lot):
 def least_lot(even, rows):
     """The least twice area of the hull of an even lot, and such a lot."""
     # Whole numbers, as the areas of all lots are compared.
-    (corners,), bottom = whole_corners([even])
-    area, lot = min([(lot_area(corners, lot), lot) for lot in even_lots(len(even), rows)])
+    whole_rows, bottom = whole_corners([even])
+    area, lot = min([(lot_area(whole_rows[0], lot), lot) for lot in even_lots(len(even), rows)])
     return (lowest_terms(area, bottom * bottom), lot)
 
 
@@ -80,7 +80,7 @@ def least_even_fault(readings, least):
     rows = rim_corners(even, readings)
     if not is_even_lot(least.kept, len(even), rows):
         return "kept"
-    (corners,), bottom = whole_corners([even])
-    if not is_ratio(least.twice) or least.twice != lowest_terms(lot_area(corners, least.kept), bottom * bottom):
+    whole_rows, bottom = whole_corners([even])
+    if not is_ratio(least.twice) or least.twice != lowest_terms(lot_area(whole_rows[0], least.kept), bottom * bottom):
         return "twice"
     return "less" if least.twice != least_lot(even, rows)[0] else None
